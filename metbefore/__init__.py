@@ -1,0 +1,1 @@
+"""Metbefore: hands known by having been there, and what sums said aloud bring two of them."""
