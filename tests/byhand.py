@@ -3,6 +3,8 @@
 import copy
 import random
 
+from metbefore.errors import NoPaper
+
 NAMES = ("al", "bo", "cy", "di", "ed", "fay", "gus")
 
 
@@ -87,6 +89,11 @@ def with_purse(book, hand, purse):
     return room, hands, meetings, purses[:at] + (tuple(sorted(purse)),) + purses[at + 1:], board
 
 
+def rows(hands, purses, board=()):
+    """A book of such purses, with twelve meetings of all."""
+    return 4, hands, (hands,) * 12, purses, board
+
+
 def draw_word(rng, many, longest=3):
     return tuple(sorted(rng.sample(range(many), rng.randint(1, min(many, longest)))))
 
@@ -134,3 +141,49 @@ def asked(function, *things, **named):
     told = function(*things, **named)
     assert repr((things, named)) == before, "what was handed in was changed"
     return told
+
+
+def weird(rng):
+    """A small thing of any kind."""
+    return rng.choice((
+        0, 1, 2, 3, -1, 10 ** 59, 10 ** 60 - 1, -(10 ** 59), True, False, None, "", "a", "al", "bo", "abcdefgh",
+        "abcdefghi", "Al", "a1", " ", "~", "a\nb", "\n", "known", "free", "meet", "fold", "drop", "say", "ask",
+        (), [], ((),), [[]], (0,), [0], (0, 1), (1, 0), (0, 0), (True,), (False, True), ((0,),), ("al",), (None,),
+        (((((0,),),),),), ["al", 0], ("known", ()), ("free", (0,)), ("al", 0),
+    ))
+
+
+def draw_thing(rng, depth=5):
+    """Any thing, tuples and lists within one another."""
+    if depth == 0 or rng.random() < 0.3:
+        return weird(rng)
+    parts = [draw_thing(rng, depth - 1) for _ in range(rng.randint(0, 5))]
+    return tuple(parts) if rng.random() < 0.7 else parts
+
+
+def _changed(rng, thing):
+    """Another thing in the place of one."""
+    ways = [weird(rng), [thing], (thing,)]
+    if isinstance(thing, tuple):
+        ways += [list(thing), thing[::-1], thing + thing[-1:], thing[1:], thing[:-1], thing + (weird(rng),)] * 2
+    elif isinstance(thing, int):
+        ways += [bool(thing), -thing - 1, thing + 1, thing + 10 ** 59, str(thing)] * 2
+    elif isinstance(thing, str):
+        ways += [thing + "z", thing.upper(), thing + "\n", thing[1:]] * 2
+    return rng.choice(ways)
+
+
+def spoilt(rng, thing):
+    """The thing with one place of it, at any depth, otherwise (now and then it stays as it is)."""
+    if isinstance(thing, tuple) and thing and rng.random() < 0.85:
+        at = rng.randrange(len(thing))
+        return thing[:at] + (spoilt(rng, thing[at]),) + thing[at + 1:]
+    return _changed(rng, thing)
+
+
+def refused(function, *things, **named):
+    """What a function tells, or the class, the word and the place by which it refuses."""
+    try:
+        return asked(function, *things, **named)
+    except NoPaper as caught:
+        return "NoPaper", caught.word, caught.at

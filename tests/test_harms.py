@@ -2,13 +2,9 @@ import unittest
 
 from metbefore.harms import harmless
 from tests import byhand
-from tests.byhand import asked
+from tests.byhand import asked, rows
 
 ALL = ("al", "bo", "cy")
-
-
-def rows(hands, purses, board=()):
-    return 4, hands, (hands,) * 12, purses, board
 
 
 def by_hand(book, door, guest, helper):

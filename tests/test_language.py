@@ -22,7 +22,7 @@ METHODS = {
 }
 BARRED = (
     ast.Global, ast.AsyncFunctionDef, ast.Await, ast.Div, ast.Try, ast.With, ast.Yield, ast.YieldFrom, ast.Set,
-    ast.NamedExpr, ast.Is, ast.IsNot, ast.Lambda, ast.GeneratorExp, ast.Assert, ast.JoinedStr,
+    ast.NamedExpr, ast.Lambda, ast.GeneratorExp, ast.Assert, ast.JoinedStr,
 )
 BARRED_NAMES = {
     "register", "mro", "elements", "open", "input", "law", "version_info", "with_traceback", "add_note", "type",
@@ -136,6 +136,8 @@ class Language(unittest.TestCase):
         for path, tree in trees():
             for node in ast.walk(tree):
                 self.assertNotIsInstance(node, BARRED, (path, getattr(node, "lineno", 0)))
+                if isinstance(node, ast.Compare) and isinstance(node.ops[0], (ast.Is, ast.IsNot)):
+                    self.assertIsInstance(node.comparators[0], ast.Constant, path)
                 if isinstance(node, ast.Constant):
                     self.assertNotIsInstance(node.value, (float, complex, bytes), path)
                     self.assertNotIn("%", str(node.value), path)

@@ -6,13 +6,9 @@ from metbefore.leastsides import least_sides
 from metbefore.planning import plan_of
 from metbefore.sides import held_by, sides_of
 from tests import byhand
-from tests.byhand import asked
+from tests.byhand import asked, rows
 
 ALL = ("al", "bo", "cy")
-
-
-def rows(hands, purses, board=()):
-    return 4, hands, (hands,) * 12, purses, board
 
 
 class PlanOf(unittest.TestCase):

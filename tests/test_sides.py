@@ -3,15 +3,10 @@ import unittest
 
 from metbefore.sides import held_by, sides_of
 from tests import byhand
-from tests.byhand import asked
+from tests.byhand import asked, rows
 
 ALL = ("al", "bo", "cy")
 BOOK = (2, ALL, (ALL, ALL), (((0,), (1,)), ((0,),), ((1,),)), ())
-
-
-def rows(hands, purses, board=()):
-    """A book of such purses, with twelve meetings of all."""
-    return 4, hands, (hands,) * 12, purses, board
 
 
 class SidesOf(unittest.TestCase):
