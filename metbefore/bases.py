@@ -1,15 +1,12 @@
 """The base of what words make, and whether they make one."""
 
-from metbefore.masks import bits_of, grown, mask_of, masks_of, rest_in, word_of
+from metbefore.masks import base_words, bits_of, grown, mask_of, masks_of, rest_in
 
 
 def base_of(words):
     """The words that make the same, rising, in which none has the first meeting of another one."""
     bits = bits_of(words)
-    rows = grown([], masks_of(words, bits))
-    # No row has the highest bit of one ahead of it: only those of the rows behind it are left to take out.
-    base = [rest_in(rows[k + 1:], row) for k, row in enumerate(rows)]
-    return tuple(sorted([word_of(mask, bits) for mask in base]))
+    return base_words(masks_of(words, bits), bits)
 
 
 def makes(words, word):

@@ -47,12 +47,37 @@ def grown(rows, masks):
     return more
 
 
+def reduced(rows):
+    """Rows that make the same, in which no row has the highest bit of another one: there are just these."""
+    # No row has the highest bit of one ahead of it: only those of the rows behind it are left to take out.
+    return [rest_in(rows[k + 1:], row) for k, row in enumerate(rows)]
+
+
+def base_words(masks, bits):
+    """The base of what numbers make, as words, rising."""
+    return tuple(sorted([word_of(mask, bits) for mask in reduced(grown([], masks))]))
+
+
+def shared(ones, others):
+    """Rows of what both these lots of numbers make."""
+    width = max([0, *ones]).bit_length()
+    doubled = [(mask << width) | mask for mask in ones] + [mask << width for mask in others]
+    # A row without an upper half is of ones and others that come to the same; the lower half is what these ones are.
+    return [row for row in grown([], doubled) if row < (1 << width)]
+
+
 def all_sums(rows):
     """All that the rows make, 0 too, each once."""
     sums = [0]
     for row in rows:
         sums = sums + [one ^ row for one in sums]
     return sums
+
+
+def power_beyond(rank, most):
+    """Whether two to the power of the rank is more than most."""
+    # A number of n binary figures is below 2 ** n, and no less than 2 ** (n - 1): so no great power is worked out.
+    return rank >= most.bit_length()
 
 
 def book_masks(book):

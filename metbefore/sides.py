@@ -5,8 +5,13 @@ from metbefore.masks import book_masks, grown, halves
 
 def sides_of(book, door, guest):
     """All sides of door and guest: rising tuples of hands with the door and without the guest."""
+    return sides_among(book[1], door, guest)
+
+
+def sides_among(hands, door, guest):
+    """The same of the hands that are handed in."""
     sides = [(door,)]
-    for hand in book[1]:
+    for hand in hands:
         if hand not in (door, guest):
             sides = sides + [(*side, hand) for side in sides]
     return tuple(sorted([tuple(sorted(side)) for side in sides]))

@@ -3,7 +3,7 @@
 import copy
 import random
 
-from metbefore.errors import NoPaper
+from metbefore.errors import LackError, MetError
 
 NAMES = ("al", "bo", "cy", "di", "ed", "fay", "gus")
 
@@ -182,8 +182,147 @@ def spoilt(rng, thing):
 
 
 def refused(function, *things, **named):
-    """What a function tells, or the class, the word and the place by which it refuses."""
+    """What a function tells, or the class and the fields, the word and the place of NoPaper, by which it refuses."""
     try:
         return asked(function, *things, **named)
-    except NoPaper as caught:
-        return "NoPaper", caught.word, caught.at
+    except (MetError, LackError) as caught:
+        return (type(caught).__name__, *vars(caught).values())
+
+
+def xor(words):
+    """The sum of words, as bits."""
+    bits = 0
+    for one in words:
+        bits ^= number(one)
+    return bits
+
+
+def beyond(words, others):
+    """The rank of the words beyond the others, by counting what is made."""
+    return power(len(all_made([*others, *words]))) - power(len(all_made(others)))
+
+
+def is_base(base, made):
+    """Whether it is the base of words that make all these bits."""
+    rising = list(base) == sorted(set(base)) and () not in base and all(list(one) == sorted(set(one)) for one in base)
+    apart = all(one == other or one[0] not in other for one in base for other in base)
+    return plain(base) and rising and apart and all_made(base) == made
+
+
+def hands_of(deed):
+    """The hands that a deed names."""
+    return {"meet": lambda: deed[1], "ask": lambda: deed[1:3]}.get(deed[0], lambda: (deed[1],))()
+
+
+def barred(book, deed):
+    """By what a deed is barred, or None."""
+    kind = deed[0]
+    if not {*hands_of(deed)} <= {*book[1]} or (kind == "ask" and len({*hands_of(deed)}) == 1):
+        return "hand"
+    if kind == "meet" and max(len(purse_of(book, hand)) for hand in deed[1]) == book[0]:
+        return "room"
+    if kind in ("fold", "drop") and not {*deed[2:]} <= {*purse_of(book, deed[1])}:
+        return "word"
+    if kind in ("say", "ask"):
+        told = (deed[2],) if kind == "say" else deed[3] + deed[4]
+        for hand in hands_of(deed):
+            made = made_by(book, (hand,))
+            if not all(one[-1] < len(book[2]) and number(one) in made for one in told):
+                return "word"
+    return "there" if kind == "say" and deed[2] in book[4] else None
+
+
+def behind(book, deed):
+    """The book behind a deed that can be done."""
+    room, hands, meetings, purses, board = book
+    purses = {hand: {*purse} for hand, purse in zip(hands, purses)}
+    board = {*board}
+    if deed[0] == "meet":
+        for hand in deed[1]:
+            purses[hand].add((len(meetings),))
+        meetings = meetings + (deed[1],)
+    elif deed[0] == "fold":
+        purses[deed[1]] -= {deed[2], deed[3]}
+        purses[deed[1]].add(word(number(deed[2]) ^ number(deed[3])))
+    elif deed[0] == "drop":
+        purses[deed[1]].remove(deed[2])
+    elif deed[0] == "say":
+        board.add(deed[2])
+    else:
+        board |= {*deed[3], *deed[4]}
+    return room, hands, meetings, tuple(tuple(sorted(purses[hand])) for hand in hands), tuple(sorted(board))
+
+
+def draw_some(rng, made, least, most):
+    """Unlike words out of those made, none void; None where there are too few."""
+    made = sorted(made - {0})
+    if len(made) < least:
+        return None
+    return tuple(word(bits) for bits in rng.sample(made, rng.randint(least, min(most, len(made)))))
+
+
+def draw_deed(rng, book, kind=None):
+    """A deed that can be done at a book, now and then; None where none was found."""
+    kind = kind or rng.choice(("meet", "meet", "meet", "fold", "fold", "drop", "say", "say", "ask"))
+    hand, other = rng.sample(book[1], 2)
+    purse = purse_of(book, hand)
+    if kind == "meet":
+        free = [one for one in book[1] if len(purse_of(book, one)) < book[0]]
+        if not free or len(book[2]) >= 12:
+            return None
+        return "meet", tuple(sorted(rng.sample(free, rng.randint(1, len(free)))))
+    if kind == "fold":
+        return ("fold", hand, *rng.sample(purse, 2)) if len(purse) > 1 else None
+    if kind == "drop":
+        return ("drop", hand, rng.choice(purse)) if purse else None
+    if kind == "say":
+        said = draw_some(rng, made_by(book, (hand,)) - {number(one) for one in book[4]}, 1, 1)
+        return said and ("say", hand, said[0])
+    both = made_by(book, (hand,)) & made_by(book, (other,))
+    row = draw_some(rng, both, 1, 3)
+    return row and ("ask", hand, other, draw_some(rng, both, 0, 2), row)
+
+
+def draw_history(rng, most=16, most_hands=5):
+    """Any history of up to most deeds, and its books."""
+    hands = NAMES[:rng.randint(2, most_hands)]
+    room = rng.choice((1, 2, 3, 4, 4))
+    books = [(room, hands, (), ((),) * len(hands), ())]
+    deeds = []
+    for _ in range(rng.choice((most, rng.randint(0, most)))):
+        deed = draw_deed(rng, books[-1])
+        # The board stays small, so that something is still known to some alone.
+        if deed and (deed[0] not in ("say", "ask") or len(books[-1][4]) < rng.randint(0, 6)):
+            deeds.append(deed)
+            books.append(behind(books[-1], deed))
+    return (room, hands, tuple(deeds)), tuple(books)
+
+
+def draw_lot(rng, history, most=2, without=()):
+    """Any lot of a history, of hands but those told."""
+    hands = [hand for hand in history[1] if hand not in without]
+    some = sorted(rng.sample(hands, rng.randint(0, min(most, len(hands)))))
+    last = len(history[2])
+    return tuple((hand, rng.choice((0, last, rng.randint(0, last)))) for hand in some)
+
+
+def had(books, lot):
+    """All words that stood with one of the lot from its since on."""
+    told = set()
+    for hand, since in lot:
+        for book in books[since:]:
+            told |= {*purse_of(book, hand)}
+    return tuple(sorted(told))
+
+
+def went_by(books, lot):
+    """What a lot goes by."""
+    return tuple(sorted({*had(books, lot), *books[-1][4]}))
+
+
+def draw_words(rng, many=6, most=7):
+    """Words in any order, some twice, the void one too."""
+    words = [word(rng.randrange(1 << many)) for _ in range(rng.randint(0, most))]
+    words += [rng.choice(words) for _ in range(rng.choice((0, 2))) if words]
+    rng.shuffle(words)
+    return tuple(words)

@@ -3,17 +3,9 @@ import unittest
 
 from metbefore.bases import base_of, makes
 from tests import byhand
-from tests.byhand import asked
+from tests.byhand import asked, draw_words
 
 SIXTY = 10 ** 59
-
-
-def draw_words(rng, many=6):
-    """Words in any order, some twice, the void one too."""
-    words = [byhand.word(rng.randrange(1 << many)) for _ in range(rng.randint(0, 7))]
-    words += [rng.choice(words) for _ in range(2) if words]
-    rng.shuffle(words)
-    return tuple(words)
 
 
 class BaseOf(unittest.TestCase):
