@@ -1,6 +1,7 @@
 """Looks at known papers: whether words make one more, by places, or don't, by a turn."""
 
 from metbefore.errors import NoPaper
+from metbefore.turns import has_odd
 from metbefore.wordkinds import is_number, is_tuple_of, is_word
 from metbefore.wordsums import sum_of
 
@@ -36,14 +37,8 @@ def _look_at_places(words, word, places):
 
 def _look_at_turn(words, word, turn):
     """Refuses what is no turn of the words and that one."""
-    inside = {meeting: True for meeting in turn}
     for k, one in enumerate(words):
-        if _has_odd(inside, one):
+        if has_odd(turn, one):
             raise NoPaper("even", k)
-    if not _has_odd(inside, word):
+    if not has_odd(turn, word):
         raise NoPaper("odd", -1)
-
-
-def _has_odd(inside, word):
-    """Whether an odd number of the word's meetings are among those inside."""
-    return len([meeting for meeting in word if meeting in inside]) & 1 == 1

@@ -283,14 +283,14 @@ def draw_deed(rng, book, kind=None):
     return row and ("ask", hand, other, draw_some(rng, both, 0, 2), row)
 
 
-def draw_history(rng, most=16, most_hands=5):
-    """Any history of up to most deeds, and its books."""
+def draw_history(rng, most=16, most_hands=5, kinds=(None,)):
+    """Any history of up to most deeds, of these kinds where some are told, and its books."""
     hands = NAMES[:rng.randint(2, most_hands)]
     room = rng.choice((1, 2, 3, 4, 4))
     books = [(room, hands, (), ((),) * len(hands), ())]
     deeds = []
     for _ in range(rng.choice((most, rng.randint(0, most)))):
-        deed = draw_deed(rng, books[-1])
+        deed = draw_deed(rng, books[-1], rng.choice(kinds))
         # The board stays small, so that something is still known to some alone.
         if deed and (deed[0] not in ("say", "ask") or len(books[-1][4]) < rng.randint(0, 6)):
             deeds.append(deed)

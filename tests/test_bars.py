@@ -95,9 +95,9 @@ class Bars(unittest.TestCase):
 
     def test_drawn(self):
         rng = random.Random(261)
-        seen = {}
-        for _ in range(300):
-            history, books = byhand.draw_history(rng)
+        lower = false = 0
+        for _ in range(400):
+            history, books = byhand.draw_history(rng, kinds=rng.choice(((None,), ("meet", "meet", "meet", "fold"))))
             door, guest = rng.sample(history[1], 2)
             lot = byhand.draw_lot(rng, history, without=(door, guest))
             sides, hands = all_sides(history, lot, door, guest)
@@ -113,11 +113,12 @@ class Bars(unittest.TestCase):
             self.assertEqual(strong, strength(books, lot, (door,), (guest,)))
             self.assertLessEqual(strong, least)
             self.assertTrue(byhand.plain((told, strong)))
-            seen[strong, least] = True
+            lower += strong < least
+            false += lot != () and least > 0
             if lot == ():
                 self.assertEqual(told, least_sides(books[-1], door, guest))
-        self.assertIn((0, 1), seen)
-        self.assertIn((1, 2), seen)
+        self.assertGreater(lower, 10)
+        self.assertGreater(false, 30)
 
     def test_whatever_is_said_outside_the_lot(self):
         rng = random.Random(262)
