@@ -1,6 +1,6 @@
 """Kinds of any thing, whatever book there is: deeds, lots; and the first book."""
 
-from metbefore.wordkinds import is_name, is_number, is_row, is_tuple_of, is_word, rises
+from metbefore.wordkinds import is_name, is_number, is_pair_of, is_row, is_tuple_of, rises
 
 
 def is_deed(thing):
@@ -30,7 +30,7 @@ def is_lot(thing):
 
 def _is_since(thing):
     """Whether it is a pair of a name and a number."""
-    return isinstance(thing, tuple) and len(thing) == 2 and is_name(thing[0]) and is_number(thing[1])
+    return is_pair_of(thing, is_name, is_number)
 
 
 def first_book(room, hands):

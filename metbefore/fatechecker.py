@@ -5,7 +5,7 @@ from metbefore.fates import words_at
 from metbefore.histories import last_book
 from metbefore.lacks import need_meetings
 from metbefore.turns import has_odd
-from metbefore.wordkinds import is_number, is_tuple_of, is_word
+from metbefore.wordkinds import is_number, is_pair_of, is_tuple_of, is_word
 from metbefore.wordsums import sum_of
 
 
@@ -32,7 +32,7 @@ def _is_paper(thing):
 
 def _is_part(thing):
     """Whether it is a pair of a number and a word."""
-    return isinstance(thing, tuple) and len(thing) == 2 and is_number(thing[0]) and is_word(thing[1])
+    return is_pair_of(thing, is_number, is_word)
 
 
 def _look_at_parts(standing, word, parts):

@@ -12,13 +12,17 @@ def had_by(history, lot):
 
 def goes_by(history, lot):
     """What it had and the words of the board, rising."""
-    books = books_of(history)
-    return tuple(sorted(set([*_had_in(books, lot), *books[-1][4]])))
+    return known_in(books_of(history), lot)
 
 
 def knows_of(history, lot):
     """The base of what it knows."""
     return base_of(goes_by(history, lot))
+
+
+def known_in(books, lot):
+    """What a lot had in these books, and the words of the last one's board, rising."""
+    return tuple(sorted(set([*_had_in(books, lot), *books[-1][4]])))
 
 
 def _had_in(books, lot):

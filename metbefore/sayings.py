@@ -5,7 +5,7 @@ from metbefore.bothmade import both_make
 from metbefore.errors import NoPaper
 from metbefore.ranks import rank_beyond
 from metbefore.reaches import words_of
-from metbefore.wordkinds import is_name, is_tuple_of, is_word
+from metbefore.wordkinds import is_name, is_pair_of, is_tuple_of, is_word
 
 
 def free_to(book, door, guest):
@@ -34,4 +34,4 @@ def behind_plan(book, door, guest, thing):
 
 def _is_saying(thing):
     """Whether it is a pair of a name and a word that isn't void."""
-    return isinstance(thing, tuple) and len(thing) == 2 and is_name(thing[0]) and is_word(thing[1]) and thing[1] != ()
+    return is_pair_of(thing, is_name, is_word) and thing[1] != ()

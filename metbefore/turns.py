@@ -13,3 +13,8 @@ def has_odd(turn, word):
     """Whether an odd number of the word's meetings are in the turn."""
     inside = {meeting: True for meeting in turn}
     return len([meeting for meeting in word if meeting in inside]) & 1 == 1
+
+
+def is_turn(words, word, turn):
+    """Whether it has an even number in common with each of the words, and an odd one with that one more."""
+    return has_odd(turn, word) and not any([has_odd(turn, one) for one in words])

@@ -11,6 +11,11 @@ def is_tuple_of(thing, is_part):
     return isinstance(thing, tuple) and all([is_part(part) for part in thing])
 
 
+def is_pair_of(thing, is_one, is_other):
+    """Whether it is a pair of such a thing and such another one."""
+    return isinstance(thing, tuple) and len(thing) == 2 and is_one(thing[0]) and is_other(thing[1])
+
+
 def rises(things):
     """Whether each of these things, which can be compared, is above the one ahead."""
     return all([one < other for one, other in zip(things, things[1:])])

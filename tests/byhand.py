@@ -326,3 +326,70 @@ def draw_words(rng, many=6, most=7):
     words += [rng.choice(words) for _ in range(rng.choice((0, 2))) if words]
     rng.shuffle(words)
     return tuple(words)
+
+
+def draw_shared(rng, most_meetings=6, most_hands=5, asks=1):
+    """A history in which two of the hands were nearly everywhere, the others here and there; and its books."""
+    hands = NAMES[:rng.randint(2, most_hands)]
+    room = rng.choice((1, 2, 3, 4, 4, 4, 4))
+    pair = rng.sample(hands, 2)
+    books = [(room, hands, (), ((),) * len(hands), ())]
+    deeds = []
+    kinds = ["fold", "fold", "drop", "say"] + ["ask"] * asks
+
+    def go(deed):
+        deeds.append(deed)
+        books.append(behind(books[-1], deed))
+
+    for _ in range(rng.randint(1, most_meetings)):
+        there = [hand for hand in hands if rng.random() < (0.95 if hand in pair else 0.45)]
+        there = [hand for hand in there if len(purse_of(books[-1], hand)) < room]
+        if there:
+            go(("meet", tuple(there)))
+        if rng.random() < 0.4:
+            kind = rng.choice(kinds)
+            deed = draw_deed(rng, books[-1], kind)
+            if deed and (kind not in ("fold", "drop") or deed[1] not in pair):
+                go(deed)
+    return (room, hands, tuple(deeds)), tuple(books), pair
+
+
+def draw_look(rng, history, books, pair):
+    """Two hands to ask about, and how: strength, count, since and shown, now and then left out."""
+    door, guest = pair if rng.random() < 0.8 else rng.sample(history[1], 2)
+    many = len(history[2])
+    how = {"strength": rng.choice((1, 1, 2, 3, 4, 5)), "count": rng.choice((0, 1, 1, 1, 2, 3, 7))}
+    how["since"] = rng.choice((0, many, rng.randint(0, many)))
+    both = made_by(books[-1], (door,)) & made_by(books[-1], (guest,))
+    how["shown"] = draw_some(rng, both, 0, 2) or ()
+    return door, guest, {name: how[name] for name in how if rng.random() < 0.85}
+
+
+def lots_of(history, door, guest, count=1, since=0):
+    """All lots of so many of the others, by going through all sets of them."""
+    others = [hand for hand in history[1] if hand not in (door, guest)]
+    many = min(count, len(others))
+    told = []
+    for bits in range(1 << len(others)):
+        lot = tuple((hand, since) for k, hand in enumerate(others) if bits >> k & 1)
+        if len(lot) == many:
+            told.append(lot)
+    return sorted(told)
+
+
+def rank(numbers):
+    """The rank of words as bits, by taking the highest bit of each out of the others."""
+    ends = {}
+    for bits in numbers:
+        while bits and bits.bit_length() in ends:
+            bits ^= ends[bits.bit_length()]
+        if bits:
+            ends[bits.bit_length()] = bits
+    return len(ends)
+
+
+def small(thing):
+    """The thing with small numbers in the place of great ones, which are beyond all that is there as well."""
+    if isinstance(thing, tuple):
+        return tuple(small(part) for part in thing)
+    return 40 + thing % 10 if type(thing) is int and thing > 1000 else thing
