@@ -1,6 +1,6 @@
 """Kinds of any thing, whatever book there is: deeds, lots; and the first book."""
 
-from metbefore.wordkinds import is_name, is_number, is_pair_of, is_row, is_tuple_of, rises
+from metbefore.wordkinds import is_asked, is_name, is_number, is_pair_of, is_row, is_tuple_of, rises
 
 
 def is_deed(thing):
@@ -14,13 +14,8 @@ def is_deed(thing):
     if thing[0] == "fold":
         return len(thing) == 4 and is_row(thing[2:])
     if thing[0] == "ask":
-        return len(thing) == 5 and is_name(thing[2]) and is_row(thing[3]) and _is_asked(thing[4])
+        return len(thing) == 5 and is_name(thing[2]) and is_row(thing[3]) and is_asked(thing[4])
     return thing[0] in ("drop", "say") and len(thing) == 3 and is_row(thing[2:])
-
-
-def _is_asked(thing):
-    """Whether it is a row of one to four words."""
-    return is_row(thing) and 1 <= len(thing) <= 4
 
 
 def is_lot(thing):

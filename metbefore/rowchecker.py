@@ -1,13 +1,12 @@
 """Looks at papers of rows that are enough, or of who is in the way."""
 
 from metbefore.bases import makes
-from metbefore.enough import MOST_WORDS
 from metbefore.errors import NoPaper
 from metbefore.histories import last_book
 from metbefore.rivals import known_by_lots
 from metbefore.sayings import both_can_make
 from metbefore.turns import is_turn
-from metbefore.wordkinds import is_name, is_number, is_pair_of, is_tuple_of, is_word
+from metbefore.wordkinds import MOST_ASKED, is_name, is_number, is_pair_of, is_tuple_of, is_word
 
 
 def lets_sought(history, door, guest, thing, *, strength=1, count=1, since=0, shown=()):
@@ -52,7 +51,7 @@ def _is_since(thing):
 
 def _look_at_row(both, row):
     """Refuses what is no row of one to four words that both make."""
-    if not 1 <= len(row) <= MOST_WORDS:
+    if not 1 <= len(row) <= MOST_ASKED:
         raise NoPaper("many", -1)
     for k, word in enumerate(row):
         if word == () or word in row[:k] or not makes(both, word):

@@ -2,12 +2,13 @@
 
 from itertools import combinations
 
-from metbefore.enough import MOST_WORDS, are_enough
+from metbefore.enough import are_enough
 from metbefore.histories import last_book
 from metbefore.leastwords import least_beyond
 from metbefore.masks import bits_of, grown, masks_of
 from metbefore.rivals import known_by_lots
 from metbefore.sayings import both_can_make
+from metbefore.wordkinds import MOST_ASKED
 
 
 def is_enough(history, door, guest, row, *, strength=1, count=1, since=0, shown=()):
@@ -36,7 +37,7 @@ def sought(history, door, guest, *, strength=1, count=1, since=0, shown=()):
 
 def _least_row(pairs, rivals, strength):
     """The least of the fewest words that are strong beyond each rival's; of pairs (word, number), rising."""
-    for many in range(1, MOST_WORDS + 1):
+    for many in range(1, MOST_ASKED + 1):
         for some in combinations(pairs, many):
             masks = [mask for _, mask in some]
             if all([_is_strong(rival, masks, strength) for rival in rivals]):

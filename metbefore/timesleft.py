@@ -1,12 +1,12 @@
 """How often still a door can ask a guest, row behind row."""
 
-from metbefore.enough import MOST_WORDS, are_enough
+from metbefore.enough import are_enough
 from metbefore.errors import NoPaper
 from metbefore.histories import last_book
 from metbefore.masks import all_sums, bits_of, grown, masks_of, reduced, rest_in, word_of
 from metbefore.rivals import known_by_lots
 from metbefore.sayings import both_can_make
-from metbefore.wordkinds import is_row, is_tuple_of, is_word
+from metbefore.wordkinds import MOST_ASKED, is_row, is_tuple_of, is_word
 
 
 def schedule_of(history, door, guest, *, strength=1, count=1, since=0):
@@ -60,7 +60,7 @@ def _rows_behind(shown, masks, rivals, strength):
     told = {}
     barred = [grown(rival, shown) for rival in rivals]
     ends = {shown: ()}
-    for _ in range(MOST_WORDS):
+    for _ in range(MOST_ASKED):
         further = _with_one_more(ends, masks)
         for making, row in further.items():
             if _are_strong(barred, row, strength):

@@ -1,5 +1,8 @@
 """Kinds of any thing: names, meetings, signs, words, rows."""
 
+# So many words a door asks for at once, at the most.
+MOST_ASKED = 4
+
 
 def is_number(thing):
     """Whether it is an int from 0 on; a truth is none."""
@@ -49,6 +52,11 @@ def are_words(thing):
 def is_row(thing):
     """Whether it is a tuple of unlike words, none void, in any order."""
     return is_tuple_of(thing, is_word) and () not in thing and len(set(thing)) == len(thing)
+
+
+def is_asked(thing):
+    """Whether it is a row of as many words as can be asked at once: one at least."""
+    return is_row(thing) and 1 <= len(thing) <= MOST_ASKED
 
 
 def are_signs(thing):

@@ -138,9 +138,10 @@ def asked(function, *things, **named):
     """What a function tells, handed in copies, which are the same behind the call."""
     before = repr((things, named))
     things, named = copy.deepcopy((things, named))
-    told = function(*things, **named)
-    assert repr((things, named)) == before, "what was handed in was changed"
-    return told
+    try:
+        return function(*things, **named)
+    finally:
+        assert repr((things, named)) == before, "what was handed in was changed"
 
 
 def weird(rng):

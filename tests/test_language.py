@@ -18,10 +18,11 @@ BUILTINS = {
 }
 METHODS = {
     "append", "count", "endswith", "extend", "find", "get", "index", "isalpha", "isdigit", "items", "join", "keys",
-    "pop", "split", "startswith", "values", "bit_length",
+    "partition", "pop", "split", "startswith", "values", "bit_length",
 }
+DOUBLE = {"__init__", "__len__", "__str__", "__eq__", "__ne__"}
 BARRED = (
-    ast.Global, ast.AsyncFunctionDef, ast.Await, ast.Div, ast.Try, ast.With, ast.Yield, ast.YieldFrom, ast.Set,
+    ast.Global, ast.AsyncFunctionDef, ast.Await, ast.Div, ast.With, ast.Yield, ast.YieldFrom, ast.Set,
     ast.NamedExpr, ast.Lambda, ast.GeneratorExp, ast.Assert, ast.JoinedStr,
 )
 BARRED_NAMES = {
@@ -119,18 +120,30 @@ class Language(unittest.TestCase):
 
     def test_names(self):
         for path, tree in trees():
-            for name in set(names_given(tree)) - {"__init__"}:
+            for name in set(names_given(tree)) - DOUBLE:
                 self.assertFalse(hasattr(builtins, name), (path, name))
                 self.assertNotIn(name, BARRED_NAMES, path)
                 self.assertFalse(name.startswith("__"), (path, name))
 
+    def own_methods(self):
+        """The methods of the package's classes."""
+        told = set()
+        for _, tree in trees():
+            for node in ast.walk(tree):
+                if isinstance(node, ast.ClassDef):
+                    told |= {part.name for part in node.body if isinstance(part, ast.FunctionDef)}
+        return told
+
     def test_builtins_and_methods(self):
+        own = self.own_methods()
+        self.assertFalse(own & METHODS)
+        self.assertLessEqual({name for name in own if name.startswith("__")}, DOUBLE)
         for path, tree in trees():
             for node in ast.walk(tree):
                 if isinstance(node, ast.Name) and hasattr(builtins, node.id):
                     self.assertIn(node.id, BUILTINS, path)
                 if isinstance(node, ast.Call) and isinstance(node.func, ast.Attribute):
-                    self.assertIn(node.func.attr, METHODS, path)
+                    self.assertIn(node.func.attr, METHODS | own - DOUBLE, path)
 
     def test_statements_and_values(self):
         for path, tree in trees():
@@ -145,7 +158,20 @@ class Language(unittest.TestCase):
     def test_raised_on_the_spot(self):
         for path, tree in trees():
             for node in ast.walk(tree):
-                if isinstance(node, ast.Raise):
+                if isinstance(node, ast.Raise) and node.exc is not None:
                     self.assertIsInstance(node.exc, ast.Call, path)
                     self.assertEqual(node.exc.keywords, [], path)
                     self.assertNotIn(node.exc.func.id, ("MetError", "LackError"), path)
+
+    def test_only_own_errors_are_caught(self):
+        refusals = self.defined("errors")
+        for path, tree in trees():
+            bare = [node for node in ast.walk(tree) if isinstance(node, ast.Raise) and node.exc is None]
+            for node in ast.walk(tree):
+                if isinstance(node, ast.Try):
+                    for handler in node.handlers:
+                        self.assertIn(handler.type.id, refusals, path)
+                        bare = [one for one in bare if one not in list(ast.walk(handler))]
+                    for row in node.finalbody:
+                        self.assertIsInstance(row, (ast.Assign, ast.AugAssign), path)
+            self.assertEqual(bare, [], path)

@@ -132,6 +132,16 @@ class Sought(unittest.TestCase):
         ):
             self.assertEqual((how, asked(sought, THREE, "al", "bo", **how)), (how, ("sent", lot)))
 
+    def test_nobody_can_be_told_apart(self):
+        history = (4, FIVE, (("meet", FIVE), ("meet", FIVE), ("fold", "di", (0,), (1,))))
+        for how, lot in (
+            ({}, (("cy", 0),)), ({"since": 1}, (("cy", 1),)), ({"since": 3}, (("cy", 3),)), ({"count": 3}, None),
+            ({"count": 2, "since": 3}, (("cy", 3), ("di", 3))), ({"strength": 2, "since": 3}, (("cy", 3),)),
+        ):
+            lot = lot or (("cy", 0), ("di", 0), ("ed", 0))
+            self.assertEqual(asked(sought, history, "al", "bo", **how), ("sent", lot))
+        self.assertEqual(asked(sought, history, "al", "bo", count=0), ("row", ((0,),)))
+
     def test_nothing_beyond_the_board(self):
         self.assertEqual(asked(sought, (1, ("al", "bo"), ()), "bo", "al"), ("sent", ()))
         self.assertEqual(asked(sought, THREE, "cy", "di", since=3), ("sent", (("al", 3),)))
